@@ -1,0 +1,1 @@
+"""The tests of tieskept: python3 -m unittest discover -s tests -t ."""

@@ -1,0 +1,1 @@
+"""Networks of compare-and-exchange gates, and the order of equal things."""
