@@ -1,60 +1,15 @@
 """[A5], what [A3] and [A4] say of it, and the first point of [A8]."""
 
 import copy
-import doctest
 import itertools
 import random
 import unittest
 
 from tests.anyvalues import any_values, nested
+from tests.same import SameTest
+from tests.samples import LINES, all_orders, all_pairs, drawn_orders, slow_closed
 from tieskept import orders
-from tieskept.bounds import MAX_LINES
 from tieskept.orders import closed, least_order, order_error, runs_order
-
-EXAMPLES = """
-    >>> from tieskept.orders import closed, least_order, order_error, runs_order
-    >>> [order_error(4, value) for value in ((), ((0, 1), (1, 3)), [(0, 1)], ((0, 1), (1, 1)), ((2, 1),), ((0, 4),), ((0, True),), ((0, 1, 2),))]
-    [None, None, 'form', ('pair', 1), ('pair', 0), ('pair', 0), ('pair', 0), ('pair', 0)]
-    >>> [order_error(4, value) for value in (((1, 2), (0, 1)), ((0, 1), (0, 1)), ((1, 2), (0, 1), (3, 3)))]
-    [('order', 1), ('order', 1), ('pair', 2)]
-    >>> chain = ((0, 1), (1, 3))
-    >>> closed(4, chain), least_order(4, closed(4, chain)), closed(4, ()), least_order(4, ((0, 1), (0, 2), (0, 3), (1, 2), (2, 3)))
-    (((0, 1), (0, 3), (1, 3)), ((0, 1), (1, 3)), (), ((0, 1), (1, 2), (2, 3)))
-    >>> runs_order((2, 3)), runs_order((1, 1, 1)), runs_order((2,))
-    (((0, 1), (2, 3), (3, 4)), (), ((0, 1),))
-"""
-
-LINES = range(2, MAX_LINES + 1)
-
-
-def all_pairs(n):
-    return tuple(itertools.combinations(range(n), 2))
-
-
-def all_orders(n):
-    """Return all orders of n, the fewest pairs first."""
-    pairs = all_pairs(n)
-    return [order for many in range(len(pairs) + 1) for order in itertools.combinations(pairs, many)]
-
-
-def drawn_orders(n, seed):
-    """Return orders of n of all sorts: none and all pairs, chains, runs, few pairs and many."""
-    draw = random.Random(seed * 100 + n)
-    pairs = all_pairs(n)
-    chain = tuple((p, p + 1) for p in range(n - 1))
-    found = [(), pairs, chain, ((0, n - 1),), ((0, 1),), ((n - 2, n - 1),), pairs[:n - 1], pairs[1:], pairs[:-1]]
-    found.append(tuple(sorted(set(chain) | {(0, n - 1)})))
-    found.append(tuple(pair for pair in pairs if pair[1] - pair[0] == 2))
-    found.append(tuple(pair for pair in pairs if pair[0] < n // 2 <= pair[1]))
-    for share in (1, 2, 3, 5, 10, 20, 50, 80, 95):
-        found.append(tuple(pair for pair in pairs if draw.randrange(100) < share))
-    for many in (1, 2, n // 2):
-        found.append(tuple(sorted(draw.sample(pairs, min(many, len(pairs))))))
-    places = sorted(draw.sample(range(n), draw.randrange(2, n + 1)))
-    found.append(tuple(zip(places, places[1:])))
-    starts = {0, *draw.sample(range(n), draw.randrange(1, n))}
-    found.append(tuple((p, p + 1) for p in range(n - 1) if p + 1 not in starts))
-    return found
 
 
 def let_rows(n, rows):
@@ -75,22 +30,6 @@ def slow_order_error(n, value):
         return ("pair", told.index(None))
     falls = [spot for spot in range(1, len(told)) if told[spot - 1] >= told[spot]]
     return ("order", falls[0]) if falls else None
-
-
-def slow_closed(order):
-    """The pairs to which one comes by pairs of order, found by walking on, step by step."""
-    steps = {}
-    for p, q in order:
-        steps.setdefault(p, []).append(q)
-    found = set()
-    for start in steps:
-        ways = list(steps[start])
-        while ways:
-            place = ways.pop()
-            if (start, place) not in found:
-                found.add((start, place))
-                ways.extend(steps.get(place, []))
-    return tuple(sorted(found))
 
 
 def slow_least(order):
@@ -114,23 +53,7 @@ def slow_runs_order(sizes):
     return tuple((p, p + 1) for p in range(len(run_of) - 1) if run_of[p] == run_of[p + 1])
 
 
-class OrdersTest(unittest.TestCase):
-    def assert_same(self, found, told, *why):
-        # repr tells a tuple from a list and True from 1.
-        self.assertEqual(repr(found), repr(told), why)
-
-
-class ExamplesTest(unittest.TestCase):
-    def test_the_examples_word_for_word(self):
-        examples = doctest.DocTestParser().get_doctest(EXAMPLES, {}, "A5", None, None)
-        shown = []
-        runner = doctest.DocTestRunner(verbose=False, optionflags=doctest.DONT_ACCEPT_TRUE_FOR_1)
-        result = runner.run(examples, out=shown.append)
-        self.assertEqual(result.failed, 0, "".join(shown))
-        self.assertEqual(result.attempted, 6)
-
-
-class OrderErrorTest(OrdersTest):
+class OrderErrorTest(SameTest):
     def test_orders_of_all_sorts_have_no_error(self):
         for n in LINES:
             for order in drawn_orders(n, 1):
@@ -229,7 +152,7 @@ class OrderErrorTest(OrdersTest):
                 self.assert_same(order_error(n, ((most - 2, most - 1),)), told, n, most)
 
 
-class ClosedAndLeastTest(OrdersTest):
+class ClosedAndLeastTest(SameTest):
     def test_all_orders_of_few_lines_by_the_rows_that_they_let(self):
         for n in (2, 3, 4, 5):
             let_by = let_rows(n, list(itertools.product(range(n), repeat=n)))
@@ -289,7 +212,7 @@ class ClosedAndLeastTest(OrdersTest):
         self.assert_same(least_order(4, ((0, 1), (0, 2), (0, 3), (1, 3), (2, 3))), ((0, 1), (0, 2), (1, 3), (2, 3)))
 
 
-class RunsOrderTest(OrdersTest):
+class RunsOrderTest(SameTest):
     def test_all_sizes_of_two_to_eleven_lines(self):
         for n in range(2, 12):
             for sizes in compositions(n):
@@ -316,7 +239,7 @@ class RunsOrderTest(OrdersTest):
                 self.assertEqual(len(closed(n, order)), sum(size * (size - 1) // 2 for size in sizes))
 
 
-class CallsTest(OrdersTest):
+class CallsTest(SameTest):
     def test_calls_by_place_and_by_name(self):
         order = ((0, 1), (1, 2), (1, 3))
         self.assert_same(order_error(n=4, value=order), None)

@@ -1,12 +1,14 @@
 """Told orders: pairs (p, q) of places, of which p has a key that is at most that of q."""
 
+from tieskept.pairs import is_pair
+
 
 def order_error(n, value):
     """Return what is wrong with value as an order of n, None if nothing is."""
     if not isinstance(value, tuple):
         return "form"
     for spot, item in enumerate(value):
-        if not _is_pair(n, item):
+        if not is_pair(n, item):
             return ("pair", spot)
     for spot in range(1, len(value)):
         if value[spot] <= value[spot - 1]:
@@ -40,18 +42,6 @@ def runs_order(sizes):
         pairs.extend([(p, p + 1) for p in range(first, first + size - 1)])
         first += size
     return tuple(pairs)
-
-
-def _is_pair(n, item):
-    if not isinstance(item, tuple) or len(item) != 2:
-        return False
-    p, q = item
-    return _is_integer(p) and _is_integer(q) and 0 <= p < q < n
-
-
-def _is_integer(value):
-    # A bool is an int for Python, but True is not 1 here.
-    return isinstance(value, int) and not isinstance(value, bool)
 
 
 def _places_above(n, order):

@@ -1,0 +1,30 @@
+"""Networks: tuples of gates (i, j), each of which compares the line i with the later line j."""
+
+from tieskept.bounds import MAX_GATES
+from tieskept.errors import TooMany, Unfit
+from tieskept.pairs import is_pair
+
+
+def network_error(n, value):
+    """Return what is wrong with value as a network of n, None if nothing is."""
+    if not isinstance(value, tuple) or len(value) > MAX_GATES:
+        return "form"
+    for spot, item in enumerate(value):
+        if not is_pair(n, item):
+            return ("gate", spot)
+    return None
+
+
+def mirrored(n, network):
+    """Return network with its lines counted from the other end."""
+    return tuple([(n - 1 - j, n - 1 - i) for i, j in network])
+
+
+def joined(n, one, other, by):
+    """Return the gates of one and, behind them, those of other, moved on by so many lines."""
+    gates = one + tuple([(i + by, j + by) for i, j in other])
+    if not all([is_pair(n, gate) for gate in gates]):
+        raise Unfit()
+    if len(gates) > MAX_GATES:
+        raise TooMany(MAX_GATES)
+    return gates
