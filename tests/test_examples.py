@@ -53,6 +53,81 @@ EXAMPLES = {
     >>> joined(3, near * 333, ((0, 1), (0, 1)), 0)
     raises TooMany(1000)
 """,
+    "B4": r"""
+    >>> from tieskept.networktexts import network_text, read_network
+    >>> network_text(far), network_text(()), read_network(12, "0-11 3-4"), read_network(2, "none")
+    ('0-2 0-1 1-2', 'none', ((0, 11), (3, 4)), ())
+    >>> read_network(3, "1-0")
+    raises BadText()
+    >>> read_network(3, "0-1  1-2")
+    raises BadText()
+    >>> read_network(3, "00-1")
+    raises BadText()
+    >>> read_network(3, "0-3")
+    raises BadText()
+""",
+    "B5": r"""
+    >>> from tieskept.runs import came, exchanged, out, out_often, settled
+    >>> out(far, (2, 2, 1)), came(far, (2, 2, 1)), exchanged(far, (2, 2, 1))
+    ((1, 2, 2), (2, 1, 0), (0,))
+    >>> out(near, (2, 2, 1)), came(near, (2, 2, 1)), exchanged(near, (2, 2, 1))
+    ((1, 2, 2), (2, 0, 1), (1, 2))
+    >>> out(near, (3, 1, 2)), came(near, (3, 1, 2)), exchanged(near, (3, 1, 2)), exchanged(near, (0, 0, 0)), out((), (3, 1, 2))
+    ((1, 2, 3), (1, 2, 0), (0, 1), (), (3, 1, 2))
+""",
+    "B6": r"""
+    >>> pass_on = ((0, 1), (1, 2))
+    >>> out_often(pass_on, (3, 2, 1), 1), out_often(pass_on, (3, 2, 1), 2), out_often(pass_on, (3, 2, 1), 10 ** 30), out_often(pass_on, (3, 2, 1), 0)
+    ((2, 1, 3), (1, 2, 3), (1, 2, 3), (3, 2, 1))
+    >>> settled(pass_on, (3, 2, 1)), settled(pass_on, (2, 1, 3)), settled(pass_on, (1, 1, 2)), settled(((0, 2),), (3, 1, 2)), settled((), (3, 2, 1))
+    (2, 1, 0, 1, 0)
+""",
+    "C2": r"""
+    >>> from tieskept.live import bare, live, live_word, sure, unlike_word, unsorted_word
+    >>> twice = ((0, 1), (1, 2), (0, 1), (1, 2))
+    >>> live(3, (), twice), live(3, ((0, 1),), twice), live(3, ((0, 1), (1, 2)), twice), live(3, ((0, 2),), ((0, 2), (0, 1)))
+    ((0, 1, 2), (1, 2), (), (1,))
+    >>> live_word(3, (), twice, 2), live_word(3, ((0, 1),), twice, 2), live_word(3, (), twice, 0) in ((1, 0, 0), (1, 0, 1))
+    ((1, 1, 0), (1, 1, 0), True)
+    >>> live_word(3, (), twice, 3)
+    raises Unfit()
+    >>> bare(3, (), twice), bare(3, ((0, 1),), twice), bare(3, ((0, 1), (1, 2)), twice), bare(2, (), ())
+    (((0, 1), (1, 2), (0, 1)), ((1, 2), (0, 1)), (), ())
+""",
+    "C3": r"""
+    >>> sure(3, (), twice), sure(3, (), twice[:2]), sure(3, (), ((0, 2),)), sure(3, ((0, 1),), ()), sure(2, (), ())
+    (((0, 1), (0, 2), (1, 2)), ((0, 2), (1, 2)), ((0, 2),), ((0, 1),), ())
+    >>> unsorted_word(3, (), twice[:2]), unsorted_word(3, (), twice), unsorted_word(3, ((0, 1), (0, 2)), twice[:2]), unsorted_word(2, (), ())
+    ((1, 1, 0), None, None, (1, 0))
+    >>> unlike_word(3, (), ((0, 1), (1, 2)), ((1, 2), (0, 1))) in ((1, 0, 0), (1, 1, 0)), unlike_word(3, (), twice, twice[:3]), unlike_word(3, (), ((0, 1), (0, 2), (1, 2)), twice[:3])
+    (True, None, None)
+    >>> unlike_word(3, ((0, 1),), twice[:2], ((1, 2),)), unlike_word(3, ((0, 2),), ((0, 2),), ()), unlike_word(2, (), ((0, 1),), ())
+    (None, None, (1, 0))
+""",
+    "D2": r"""
+    >>> from tieskept.ties import clean_word, keeps_ties, kept_gates, paper_holds, passing
+    >>> bubble, leap, late = ((0, 1), (1, 2), (0, 1)), ((0, 2),), ((0, 1), (0, 2), (1, 2))
+    >>> keeps_ties(3, (), bubble), keeps_ties(3, (), leap), keeps_ties(3, (), bubble + leap), keeps_ties(3, (), ())
+    (True, False, True, True)
+    >>> keeps_ties(3, ((0, 1), (1, 2)), leap), keeps_ties(3, ((0, 1),), leap), keeps_ties(3, ((0, 2),), leap), keeps_ties(3, ((1, 2),), leap)
+    (True, False, True, False)
+    >>> kept_gates(3, (), bubble), kept_gates(3, (), late), kept_gates(3, (), leap), kept_gates(3, ((0, 2),), late), kept_gates(3, ((0, 1),), late)
+    (3, 1, 0, 3, 1)
+""",
+    "D3": r"""
+    >>> [paper_holds(3, (), leap, value) for value in (((1, 1, 0), 0, 1), ((1, 0, 0), 1, 2), ((1, 1, 0), 1, 0), ((1, 0, 1), 0, 2), ((2, 2, 0), 0, 1), [(1, 1, 0), 0, 1], None)]
+    [True, True, False, False, False, False, False]
+    >>> paper_holds(3, ((0, 1),), leap, ((1, 1, 0), 0, 1)), paper_holds(3, ((0, 1),), leap, ((1, 0, 0), 1, 2)), paper_holds(3, (), late, passing(3, (), late))
+    (True, False, True)
+    >>> passing(3, (), bubble)
+    raises Unfit()
+""",
+    "D4": r"""
+    >>> clean_word(3, (), late), clean_word(4, (), ((1, 2), (0, 2))), clean_word(3, ((1, 2),), leap)
+    ((1, 1, 0), (1, 0, 0, 1), (1, 0, 0))
+    >>> clean_word(3, (), bubble)
+    raises Unfit()
+""",
 }
 
 
