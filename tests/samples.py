@@ -153,3 +153,36 @@ def slow_turns(network, row):
         (p, q) for p, q in all_pairs(len(row))
         if row[p] == row[q] and came_from.index(q) < came_from.index(p)
     ]
+
+
+@functools.lru_cache(maxsize=None)
+def slow_first_far(n, order, network):
+    """Return the spot of the first far gate that exchanges on some let word, None if there is none."""
+    runs = [slow_run(network, word)[2] for word in slow_let_words(n, order)]
+    far = [spot for spots in runs for spot in spots if network[spot][1] - network[spot][0] > 1]
+    return min(far, default=None)
+
+
+@functools.lru_cache(maxsize=None)
+def let_bits(n, order):
+    """Return which rows of as many keys as lines the order lets, as the bits of a number."""
+    rows = itertools.product(range(n), repeat=n)
+    return sum(1 << k for k, row in enumerate(rows) if slow_lets(order, row))
+
+
+@functools.lru_cache(maxsize=None)
+def turned_bits(n, network):
+    """Return on which rows of as many keys as lines two things are turned, as the bits of a number."""
+    rows = itertools.product(range(n), repeat=n)
+    return sum(1 << k for k, row in enumerate(rows) if slow_turns(network, row))
+
+
+def slow_paper_holds(n, order, network, value):
+    if type(value) is not tuple or len(value) != 3:
+        return False
+    word, p, q = value
+    if type(word) is not tuple or len(word) != n or type(p) is not int or type(q) is not int:
+        return False
+    if not all(type(item) is int and item in (0, 1) for item in word) or not 0 <= p < q < n:
+        return False
+    return slow_lets(order, word) and (p, q) in slow_turns(network, word)

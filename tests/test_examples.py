@@ -128,6 +128,65 @@ EXAMPLES = {
     >>> clean_word(3, (), bubble)
     raises Unfit()
 """,
+    "D5": r"""
+    >>> from tieskept.telling import fewest_told
+    >>> fewest_told(3, (), leap), len(fewest_told(3, ((0, 1),), leap)), fewest_told(3, (), bubble), len(fewest_told(3, (), late))
+    (((0, 2),), 2, (), 1)
+    >>> fewest_told(4, (), ((0, 2), (1, 3))), keeps_ties(3, fewest_told(3, (), late), late)
+    (((0, 2), (1, 3)), True)
+""",
+    "E2": r"""
+    >>> from tieskept.runs import came
+    >>> from tieskept.tags import border_paper, least_tags, tagged_came, tags_hold, turned_in
+    >>> three = ((0, 2), (0, 1), (1, 2))
+    >>> came(three, (5, 5, 3)), tagged_came((0,), three, (5, 5, 3)), tagged_came((0, 1, 2), three, (5, 5, 3)), tagged_came((0, 2), three, (5, 5, 3))
+    ((2, 1, 0), (2, 1, 0), (2, 0, 1), (2, 1, 0))
+    >>> tagged_came((0, 1), three, (5, 5, 5)), tagged_came((0, 1), ((0, 1),), (7, 7)), tagged_came((0, 1), (), (7, 2))
+    ((0, 1, 2), (0, 1), (0, 1))
+""",
+    "E3": r"""
+    >>> turned_in(3, (), three, 0, 1), turned_in(3, (), three, 1, 2), turned_in(3, (), three, 1, 1), turned_in(3, ((0, 2),), three, 0, 2)
+    (((1, 1, 0), 0, 1), ((2, 1, 1), 1, 2), None, None)
+    >>> turned_in(3, (), three, 0, 2) in (((1, 1, 0), 0, 1), ((2, 1, 1), 1, 2)), turned_in(3, (), ((0, 1), (1, 2), (0, 1)), 0, 2)
+    (True, None)
+    >>> jump = ((0, 3),)
+    >>> turned_in(4, (), jump, 0, 1) in (((1, 1, 0, 0), 0, 1), ((1, 1, 2, 0), 0, 1)), turned_in(4, (), jump, 1, 2), turned_in(4, ((0, 1), (2, 3)), ((0, 2), (1, 3), (1, 2)), 0, 1)
+    (True, None, ((1, 1, 0, 2), 0, 1))
+""",
+    "E4": r"""
+    >>> least_tags(3, (), three), least_tags(4, (), jump), least_tags(3, ((0, 2),), three), least_tags(4, (), ((0, 1), (2, 3), (1, 2)))
+    ((0, 1, 2), (0, 1, 3), (0,), (0,))
+    >>> border_paper(3, (), three, 1), border_paper(3, (), three, 2)
+    (((1, 1, 0), 0, 1), ((2, 1, 1), 1, 2))
+    >>> border_paper(3, (), three, 3)
+    raises Unfit()
+    >>> border_paper(3, (), three, True)
+    raises Unfit()
+    >>> border_paper(4, (), jump, 3)
+    raises Unfit()
+    >>> [tags_hold(4, (), jump, starts) for starts in ((0, 1, 3), (0, 1, 2, 3), (0,), (0, 3), (0, 1))], tags_hold(3, (), three, (0, 1, 2))
+    ([True, True, False, False, False], True)
+""",
+    "F2": r"""
+    >>> from tieskept.images import all_paper, image, keeps_all, kept_all_gates
+    >>> from tieskept.ties import paper_holds
+    >>> two = ((0, 1), (1, 2))
+    >>> image(3, bubble), image(3, two), image(3, leap), image(4, ((2, 3),)), image(2, ())
+    ((1, 2, 3), (2, 1, 3), (1, 2, 3), (4, 3, 1, 2), (2, 1))
+    >>> keeps_all(3, bubble), keeps_all(3, leap), keeps_all(3, bubble + leap), keeps_all(24, ((0, 23),))
+    (True, False, True, False)
+    >>> kept_all_gates(3, bubble), kept_all_gates(3, late), kept_all_gates(3, leap), kept_all_gates(4, ((0, 1), (2, 3), (1, 3), (0, 2)))
+    (3, 1, 0, 2)
+""",
+    "F3": r"""
+    >>> paper_holds(3, (), leap, all_paper(3, leap)), paper_holds(3, (), late, all_paper(3, late))
+    (True, True)
+    >>> far = tuple([(k, k + 2) for k in range(22)]) + ((0, 1),)
+    >>> paper_holds(24, (), far, all_paper(24, far))
+    True
+    >>> all_paper(3, bubble)
+    raises Unfit()
+""",
 }
 
 

@@ -1,6 +1,5 @@
 """[D1], [D2], [D3] and [D4], and what [D6] and [D7] say of them."""
 
-import functools
 import itertools
 import random
 import time
@@ -8,33 +7,11 @@ import time
 from tests.anyvalues import any_values
 from tests.same import SameTest
 from tests.samples import (
-    LINES, WORDY, all_networks, all_orders, all_pairs, drawn_networks, drawn_orders, slow_let_words, slow_lets,
-    slow_run, slow_turns, sorter, wordy_cases,
+    LINES, WORDY, all_networks, all_orders, all_pairs, drawn_networks, drawn_orders, let_bits, slow_first_far,
+    slow_let_words, slow_lets, slow_paper_holds, slow_run, slow_turns, sorter, turned_bits, wordy_cases,
 )
 from tieskept import ties
 from tieskept.ties import clean_word, keeps_ties, kept_gates, paper_holds, passing
-
-
-@functools.lru_cache(maxsize=None)
-def first_far(n, order, network):
-    """Return the spot of the first far gate that exchanges on some let word, None if there is none."""
-    runs = [slow_run(network, word)[2] for word in slow_let_words(n, order)]
-    far = [spot for spots in runs for spot in spots if network[spot][1] - network[spot][0] > 1]
-    return min(far, default=None)
-
-
-@functools.lru_cache(maxsize=None)
-def let_bits(n, order):
-    """Return which rows of as many keys as lines the order lets, as the bits of a number."""
-    rows = itertools.product(range(n), repeat=n)
-    return sum(1 << k for k, row in enumerate(rows) if slow_lets(order, row))
-
-
-@functools.lru_cache(maxsize=None)
-def turned_bits(n, network):
-    """Return on which rows of as many keys as lines two things are turned, as the bits of a number."""
-    rows = itertools.product(range(n), repeat=n)
-    return sum(1 << k for k, row in enumerate(rows) if slow_turns(network, row))
 
 
 def slow_kept(n, order, network):
@@ -43,17 +20,6 @@ def slow_kept(n, order, network):
         if turned_bits(n, network[:many + 1]) & let_bits(n, order):
             return many
     return len(network)
-
-
-def slow_paper_holds(n, order, network, value):
-    if type(value) is not tuple or len(value) != 3:
-        return False
-    word, p, q = value
-    if type(word) is not tuple or len(word) != n or type(p) is not int or type(q) is not int:
-        return False
-    if not all(type(item) is int and item in (0, 1) for item in word) or not 0 <= p < q < n:
-        return False
-    return slow_lets(order, word) and (p, q) in slow_turns(network, word)
 
 
 class TiesCase(SameTest):
@@ -87,7 +53,7 @@ class TiesCase(SameTest):
 
 class TiesTest(TiesCase):
     def check(self, n, order, network):
-        spot = first_far(n, order, network)
+        spot = slow_first_far(n, order, network)
         if spot is None:
             self.assert_keeps(n, order, network)
         else:

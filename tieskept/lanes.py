@@ -32,3 +32,17 @@ def first_told(words, told):
         return None
     # Of a number and its negative the lowest bit alone is the same.
     return words[(told & -told).bit_length() - 1]
+
+
+def thing_lanes(n, network, exchanging, every):
+    """Return for each place the lanes of its thing: on each line, the words on which it comes out there.
+
+    exchanging tells for each gate the words on which it exchanges, every tells all words.
+    """
+    things = [[every if line == place else 0 for line in range(n)] for place in range(n)]
+    for (i, j), told in zip(network, exchanging):
+        for lanes in things:
+            moved = (lanes[i] ^ lanes[j]) & told
+            lanes[i] ^= moved
+            lanes[j] ^= moved
+    return things

@@ -28,3 +28,17 @@ def joined(n, one, other, by):
     if len(gates) > MAX_GATES:
         raise TooMany(MAX_GATES)
     return gates
+
+
+def is_far(gate):
+    """Return whether the lines of gate are no neighbours."""
+    i, j = gate
+    return j > i + 1
+
+
+def first_far(network, spots):
+    """Return the first of the spots at which a far gate stands, the number of all gates if there is none."""
+    for spot in spots:
+        if is_far(network[spot]):
+            return spot
+    return len(network)

@@ -48,7 +48,7 @@ def _places_above(n, order):
     """Return for each place p a number that has the bit q for each place q to which pairs lead from p."""
     above = [0] * n
     # Pairs lead to greater places only, so from the last pair on, above[q] is whole when a pair leads to q.
-    for p, q in reversed(order):
+    for p, q in order[::-1]:
         above[p] |= (1 << q) | above[q]
     return above
 

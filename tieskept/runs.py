@@ -35,6 +35,14 @@ def settled(network, row):
     return times
 
 
+def turned_pairs(network, row):
+    """Return all pairs of places with equal keys, of which the thing of the greater one comes out first."""
+    places = came(network, row)
+    lines = [places.index(place) for place in range(len(places))]
+    pairs = [(p, q) for p in range(len(row)) for q in range(p + 1, len(row))]
+    return [(p, q) for p, q in pairs if row[p] == row[q] and lines[q] < lines[p]]
+
+
 def _run(network, row):
     """Return the list of the places from which the things on the lines came, and of the spots that exchanged."""
     places = list(range(len(row)))

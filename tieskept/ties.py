@@ -3,9 +3,10 @@
 from tieskept.errors import Unfit
 from tieskept.lanes import first_told, run_lanes, word_lanes
 from tieskept.live import live
+from tieskept.networks import first_far
 from tieskept.pairs import is_pair
 from tieskept.rows import lets, row_error
-from tieskept.runs import came
+from tieskept.runs import turned_pairs
 from tieskept.words import let_words
 
 
@@ -16,20 +17,14 @@ def keeps_ties(n, order, network):
 
 def kept_gates(n, order, network):
     """Return how many gates stand ahead of the first live far gate, all of them if there is none."""
-    for spot in live(n, order, network):
-        i, j = network[spot]
-        if j > i + 1:
-            return spot
-    return len(network)
+    return first_far(network, live(n, order, network))
 
 
 def passing(n, order, network):
     """Return a paper: a let word, and two places whose equal things are turned on it."""
     word = clean_word(n, order, network)
-    lines = _lines(network, word)
-    turns = [(p, q) for p in range(n) for q in range(p + 1, n) if _turned(word, lines, p, q)]
-    # On a clean word there always is one: see [D6].
-    p, q = turns[0]
+    # On a clean word some things always are turned: see [D6].
+    p, q = turned_pairs(network, word)[0]
     return word, p, q
 
 
@@ -40,7 +35,7 @@ def paper_holds(n, order, network, value):
     word, p, q = value
     if not is_pair(n, (p, q)) or not _is_word(n, word) or not lets(order, word):
         return False
-    return _turned(word, _lines(network, word), p, q)
+    return (p, q) in turned_pairs(network, word)
 
 
 def clean_word(n, order, network):
@@ -66,13 +61,3 @@ def _clean(lanes, i, j):
 
 def _is_word(n, value):
     return row_error(n, value) is None and all([key in (0, 1) for key in value])
-
-
-def _lines(network, word):
-    """Return for each place the line on which its thing comes out."""
-    places = came(network, word)
-    return [places.index(place) for place in range(len(places))]
-
-
-def _turned(word, lines, p, q):
-    return word[p] == word[q] and lines[q] < lines[p]

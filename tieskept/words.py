@@ -19,14 +19,20 @@ def words(n, order):
 
 def let_words(n, order):
     """Return the ascending list of the words of n that order lets, however many they are."""
+    return let_rows(order, [(0, 1)] * n)
+
+
+def let_rows(order, choices):
+    """Return the ascending list of the rows that order lets and that have, at each place, a key of its choices.
+
+    The choices of a place are an ascending tuple of keys from 0 on.
+    """
     found = [()]
-    for place in range(n):
+    for place, keys in enumerate(choices):
         below = [p for p, q in order if q == place]
         longer = []
-        for word in found:
-            # The order only ever forbids a 0: so each word can go on, with a 1.
-            if not any([word[p] for p in below]):
-                longer.append(word + (0,))
-            longer.append(word + (1,))
+        for row in found:
+            least = max([row[p] for p in below], default=0)
+            longer.extend([row + (key,) for key in keys if key >= least])
         found = longer
     return found
