@@ -99,6 +99,21 @@ def sorter(n):
     return tuple((k, k + 1) for last in range(n - 1, 0, -1) for k in range(last))
 
 
+def kept_networks(n, seed, most=40):
+    """Return networks of all sorts that keep ties, some of them with far gates."""
+    draw = random.Random(seed * 100 + n)
+    near = [(k, k + 1) for k in range(n - 1)]
+    found = [network for network in drawn_networks(n, seed, most) if slow_keeps_all(n, network)]
+    for _ in range(4):
+        network = ()
+        for _ in range(draw.randrange(most)):
+            gate = draw.choice(near) if draw.randrange(3) else draw.choice(all_pairs(n))
+            if slow_keeps_all(n, network + (gate,)):
+                network = network + (gate,)
+        found.append(network)
+    return found
+
+
 def slow_closed(order):
     """The pairs to which one comes by pairs of order, found by walking on, step by step."""
     steps = {}
@@ -186,3 +201,15 @@ def slow_paper_holds(n, order, network, value):
     if not all(type(item) is int and item in (0, 1) for item in word) or not 0 <= p < q < n:
         return False
     return slow_lets(order, word) and (p, q) in slow_turns(network, word)
+
+
+def slow_keeps_all(n, network):
+    """Whether no far gate exchanges on the descending row."""
+    spots = slow_run(network, tuple(range(n, 0, -1)))[2]
+    return all(network[spot][1] - network[spot][0] == 1 for spot in spots)
+
+
+def slow_ahead(n, network):
+    """The pairs of lines that are in order behind the descending row."""
+    keys = slow_run(network, tuple(range(n, 0, -1)))[0]
+    return tuple((a, b) for a, b in all_pairs(n) if keys[a] < keys[b])

@@ -187,6 +187,72 @@ EXAMPLES = {
     >>> all_paper(3, bubble)
     raises Unfit()
 """,
+    "F4": r"""
+    >>> from tieskept.comings import ahead, can_come, come_count
+    >>> from tieskept.runs import out
+    >>> ahead(3, two), ahead(3, bubble), ahead(3, ()), ahead(3, ((0, 1),))
+    (((0, 2), (1, 2)), ((0, 1), (0, 2), (1, 2)), (), ((0, 1),))
+    >>> out(two, can_come(3, two, (0, 1, 2))), out(two, can_come(3, two, (1, 0, 2))), can_come(3, two, (2, 0, 1))
+    ((0, 1, 2), (1, 0, 2), None)
+    >>> come_count(3, two), come_count(3, ((0, 1),)), come_count(3, bubble), come_count(3, ()), come_count(10, ())
+    (2, 3, 1, 6, 3628800)
+    >>> come_count(3, leap)
+    raises Unfit()
+""",
+    "F6": r"""
+    >>> from tieskept.mending import least_network, mended
+    >>> len(least_network(3, two + two)), len(least_network(3, bubble + leap + bubble)), least_network(4, ((2, 3), (2, 3))), least_network(3, ())
+    (3, 3, ((2, 3),), ())
+    >>> image(3, mended(3, late)), [out(mended(3, late), row) for row in ((1, 2, 1), (5, 4, 3), (1, 0, 1))]
+    ((1, 2, 3), [(1, 1, 2), (3, 4, 5), (0, 1, 1)])
+    >>> sorter = mended(4, ((0, 2), (1, 3), (0, 1), (2, 3), (1, 2)))
+    >>> keeps_all(4, sorter), out(sorter, (4, 2, 3, 1)), [j - i for i, j in sorter] == [1] * len(sorter)
+    (True, (1, 2, 3, 4), True)
+    >>> least_network(3, late)
+    raises Unfit()
+""",
+    "G3": r"""
+    >>> from tieskept.benches import Bench
+    >>> b, leap, late, bubble = Bench(3), ((0, 2),), ((0, 1), (0, 2), (1, 2)), ((0, 1), (1, 2), (0, 1))
+    >>> [b.add("leap", leap), b.keeps("leap"), b.made, b.told(((0, 2),)), b.keeps("leap"), b.made, b.order]
+    [1, False, 1, 2, True, 2, ((0, 2),)]
+    >>> [b.undo(), b.order, b.keeps("leap"), b.made, b.redo(), b.keeps("leap"), b.made]
+    [1, (), False, 2, 2, True, 2]
+    >>> [b.add("late", late), b.add("bubble", bubble), b.alike("late", "bubble"), b.made, b.alike("leap", "late"), b.made, b.image_of("late"), b.made]
+    [3, 4, True, 4, False, 4, (1, 2, 3), 4]
+    >>> [b.put("late", 1, (0, 1)), b.keeps("late"), b.made, b.take("late", 1), b["late"], b.alike("late", "bubble"), b.made]
+    [5, True, 5, 6, ((0, 1), (1, 2)), True, 6]
+    >>> b.more("leap", (1, 0))
+    raises BadNetwork(('gate', 1))
+    >>> b.take("leap", 1)
+    raises Unfit()
+    >>> b.told(((0, 0),))
+    raises Unfit()
+    >>> b.add("leap", leap)
+    raises Taken('leap')
+""",
+    "G5": r"""
+    >>> [b.at(1), b.at(b.version) == (b.order, b.shelf), b.copy() == b, b.copy() is b, len(b), list(b)]
+    [((), (('leap', ((0, 2),)),)), True, True, False, 3, ['bubble', 'late', 'leap']]
+    >>> [b.batch((("told", ()), ("call", "leap", "far"))), b.log[-1][0], b.keeps("far"), b.made, b.undo(), b.keeps("leap"), b.made]
+    [7, 'batch', False, 6, 6, True, 6]
+    >>> b.batch((("drop", "leap"), ("drop", "leap")))
+    raises Rejected(1)
+    >>> b.batch((("told",),))
+    raises BadBatch()
+    >>> b.at(True)
+    raises NoVersion(True)
+""",
+    "G6": r"""
+    >>> from tieskept.shells import Shell
+    >>> s = Shell(3)
+    >>> [s.say("names"), s.say("add late 0-1 0-2 1-2"), s.say("show late"), s.say("keeps late"), s.say("told 0-2"), s.say("keeps late"), s.say("order"), s.say("made")]
+    ['none', 'version 1', '0-1 0-2 1-2', 'no', 'version 2', 'yes', '0-2', '2']
+    >>> [s.say("image late"), s.say("take late 1"), s.say("take late 2"), s.say("take late 02"), s.say("told 1-2 0-2"), s.say("told none"), s.say("keeps lamp"), s.say("drop"), s.say(7)]
+    ['1 2 3', 'version 3', 'error Unfit', 'what', 'what', 'version 4', 'error NoName', 'what', 'what']
+    >>> [s.say("add none 0-1"), s.say("add empty none"), s.say("alike late empty"), s.say("undo"), s.say("redo"), s.say("redo")]
+    ['error Unfit', 'version 5', 'no', 'version 4', 'version 5', 'error NothingToRedo']
+""",
 }
 
 
