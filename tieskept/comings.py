@@ -32,5 +32,6 @@ def come_count(n, network):
     for given in range(1 << n):
         for line in range(n):
             if not given >> line & 1 and not lesser[line] & ~given:
-                ways[given | 1 << line] += ways[given]
+                behind = given | 1 << line
+                ways[behind] = ways[behind] + ways[given]
     return ways[-1]

@@ -49,7 +49,7 @@ def _places_above(n, order):
     above = [0] * n
     # Pairs lead to greater places only, so from the last pair on, above[q] is whole when a pair leads to q.
     for p, q in order[::-1]:
-        above[p] |= (1 << q) | above[q]
+        above[p] = above[p] | 1 << q | above[q]
     return above
 
 

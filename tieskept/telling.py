@@ -27,12 +27,9 @@ def _fewest_pairs(bad, away):
     # Behind each step: what bad words may be left by so many pairs, and the pairs that leave them.
     found = {bad: ()}
     while 0 not in found:
-        longer = {}
-        for left, pairs in found.items():
-            # Some pair has to keep the first bad word that is left away, so no other pairs have to be tried.
-            first = left & -left
-            for pair, words in away.items():
-                if words & first:
-                    longer[left & ~words] = pairs + (pair,)
-        found = longer
+        # Some pair has to keep the first bad word that is left away, so no other pairs have to be tried.
+        found = {
+            left & ~words: pairs + (pair,)
+            for left, pairs in found.items() for pair, words in away.items() if words & (left & -left)
+        }
     return found[0]

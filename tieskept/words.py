@@ -30,9 +30,11 @@ def let_rows(order, choices):
     found = [()]
     for place, keys in enumerate(choices):
         below = [p for p, q in order if q == place]
-        longer = []
-        for row in found:
-            least = max([row[p] for p in below], default=0)
-            longer.extend([row + (key,) for key in keys if key >= least])
-        found = longer
+        found = [row + (key,) for row in found for key in _let_keys(row, below, keys)]
     return found
+
+
+def _let_keys(row, below, keys):
+    """Return the list of those keys that are at least what row has at each place of below."""
+    least = max([row[p] for p in below], default=0)
+    return [key for key in keys if key >= least]
